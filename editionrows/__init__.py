@@ -1,0 +1,1 @@
+"""Editionrows: rows written before the column."""

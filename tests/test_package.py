@@ -1,0 +1,160 @@
+"""The interface as it is listed, and those rules of the language that are easy to see."""
+
+import ast
+import importlib
+import inspect
+import pathlib
+import unittest
+
+FOLDER = pathlib.Path(__file__).resolve().parent.parent / "editionrows"
+
+FUNCTIONS = {
+    "values": ["is_value(value)", "is_within(value, greatest)", "values_to(greatest)", "rank(value)",
+               "in_order(values)"],
+    "changes": ["is_change(value)", "kind_of(change)", "why_not(columns, change)",
+                "changed_columns(columns, change, number)", "changed_value(column, change, value)"],
+}
+
+METHODS = {
+    "columns.Column": ["__init__(self, name, greatest, default=None, *, number=0)", "__eq__(self, other)",
+                       "__contains__(self, x)", "all_values(self)", "changed(self, part, value)"],
+}
+
+BUILTINS = ["len", "range", "enumerate", "zip", "min", "max", "sum", "abs", "sorted", "reversed", "int", "str", "bool",
+            "list", "tuple", "dict", "set", "isinstance", "repr", "any", "all", "divmod", "ValueError", "TypeError",
+            "KeyError", "IndexError", "OverflowError", "RuntimeError", "NotImplemented", "super"]
+
+# Python's own methods that the package may call; all others are its own.
+PLAIN_METHODS = ["append", "get", "items", "join", "index", "pop", "copy", "count", "keys", "setdefault", "split",
+                 "values", "extend", "reverse", "insert"]
+
+NODES_BARRED = (ast.AsyncFunctionDef, ast.Await, ast.Global, ast.Import, ast.Lambda, ast.GeneratorExp, ast.Div,
+                ast.AnnAssign, ast.Try)
+
+WORDS_BARRED = ["type", "enum", "typing", "open", "input", "law", "elements", "register", "eval", "exec", "globals"]
+
+
+def sources():
+    return [(path, path.read_bytes()) for path in sorted(FOLDER.glob("*.py"))]
+
+
+def trees():
+    return [(path, ast.parse(source)) for path, source in sources()]
+
+
+def signature(name, function):
+    return name + str(inspect.signature(function))
+
+
+class Interface(unittest.TestCase):
+
+    def test_functions(self):
+        for module, wanted in FUNCTIONS.items():
+            there = importlib.import_module("editionrows." + module)
+            for line in wanted:
+                function = getattr(there, line.partition("(")[0])
+                self.assertEqual(signature(function.__name__, function), line)
+                self.assertEqual(function.__module__, there.__name__)
+
+    def test_methods(self):
+        for place, wanted in METHODS.items():
+            module, _, name = place.partition(".")
+            owner = getattr(importlib.import_module("editionrows." + module), name)
+            self.assertEqual(owner.__module__, "editionrows." + module)
+            for line in wanted:
+                method = line.partition("(")[0]
+                self.assertIn(method, vars(owner), place)
+                self.assertEqual(signature(method, vars(owner)[method]), line)
+
+
+class Language(unittest.TestCase):
+
+    def test_files(self):
+        names = [path.name for path in FOLDER.iterdir() if path.name != "__pycache__"]
+        self.assertIn("__init__.py", names)
+        for name in names:
+            self.assertRegex(name, r"\A[a-z_]+\.py\Z")
+
+    def test_characters_and_sizes(self):
+        for path, source in sources():
+            self.assertTrue(all(sign == 10 or 32 <= sign <= 126 for sign in source), path)
+            lines = source.decode("ascii").split("\n")
+            self.assertLess(len(lines), 400, path)
+            self.assertLessEqual(max(len(line) for line in lines), 120, path)
+
+    def test_functions_are_short(self):
+        for path, tree in trees():
+            for node in ast.walk(tree):
+                if isinstance(node, ast.FunctionDef):
+                    self.assertLessEqual(node.end_lineno - node.lineno + 1, 40, (path, node.name))
+                    self.assertEqual(node.decorator_list, [], (path, node.name))
+
+    def test_imports(self):
+        for path, tree in trees():
+            names = []
+            for node in ast.walk(tree):
+                if isinstance(node, ast.ImportFrom):
+                    self.assertIn(node, tree.body)
+                    self.assertEqual(node.level, 0)
+                    self.assertTrue(node.module.startswith("editionrows."), (path, node.module))
+                    there = ast.parse((FOLDER / (node.module.partition(".")[2] + ".py")).read_text())
+                    self.assertLessEqual({alias.name for alias in node.names}, bound_at_top(there), path)
+                    names = names + [alias.name for alias in node.names]
+            used = [node.id for node in ast.walk(tree) if isinstance(node, ast.Name)]
+            for name in names:
+                self.assertIn(name, used, path)
+            own = names + [node.name for node in tree.body if isinstance(node, ast.ClassDef)]
+            for name in bound_inside(tree):
+                self.assertNotIn(name, own, path)
+
+    def test_names_that_are_read(self):
+        for path, tree in trees():
+            known = bound_at_top(tree) | bound_inside(tree) | set(BUILTINS)
+            for node in ast.walk(tree):
+                if isinstance(node, ast.ImportFrom):
+                    known |= {alias.name for alias in node.names}
+            for node in ast.walk(tree):
+                self.assertNotIsInstance(node, NODES_BARRED, path)
+                if isinstance(node, ast.Name):
+                    self.assertIn(node.id, known, path)
+                    self.assertNotIn(node.id, WORDS_BARRED, path)
+
+    def test_names_that_are_bound(self):
+        builtins = set(dir(importlib.import_module("builtins")))
+        for path, tree in trees():
+            for name in bound_at_top(tree) | bound_inside(tree):
+                self.assertNotIn(name, builtins, path)
+                self.assertNotIn(name, WORDS_BARRED, path)
+
+    def test_methods_that_are_called(self):
+        own = set()
+        for _, tree in trees():
+            own |= {node.name for node in ast.walk(tree) if isinstance(node, ast.FunctionDef)}
+        for path, tree in trees():
+            for node in ast.walk(tree):
+                if isinstance(node, ast.Call) and isinstance(node.func, ast.Attribute):
+                    self.assertIn(node.func.attr, own | set(PLAIN_METHODS), path)
+
+
+def bound_at_top(tree):
+    found = set()
+    for node in tree.body:
+        if isinstance(node, (ast.FunctionDef, ast.ClassDef)):
+            found.add(node.name)
+        if isinstance(node, ast.Assign):
+            found |= {target.id for target in node.targets}
+    return found
+
+
+def bound_inside(tree):
+    """The names of parameters and local variables."""
+    found = {node.arg for node in ast.walk(tree) if isinstance(node, ast.arg)}
+    for top in ast.walk(tree):
+        if isinstance(top, ast.FunctionDef):
+            found |= {node.id for node in ast.walk(top) if isinstance(node, ast.Name)
+                      and isinstance(node.ctx, ast.Store)}
+    return found
+
+
+if __name__ == "__main__":
+    unittest.main()
