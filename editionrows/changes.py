@@ -2,7 +2,7 @@
 
 from editionrows.columns import Column, column_named
 from editionrows.errors import BadChange, CannotBe
-from editionrows.values import MISSING, is_greatest, is_integer, is_name, is_value, is_within
+from editionrows.values import MISSING, is_greatest, is_whole, is_name, is_value, is_within
 
 WAYS = ("cut", "none", "refuse")
 MOST_COLUMNS = 6
@@ -34,7 +34,7 @@ def is_single_part(kind, part):
         return is_name(part)
     if kind == "default":
         return is_value(part)
-    return is_integer(part) and part >= 0
+    return is_whole(part) and part >= 0
 
 
 def is_way(value):

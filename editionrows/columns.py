@@ -1,7 +1,7 @@
 """Columns, and how one of a list of them is found."""
 
 from editionrows.errors import BadPart
-from editionrows.values import is_greatest, is_integer, is_name, is_within, values_to
+from editionrows.values import is_greatest, is_whole, is_name, is_within, values_to
 
 PARTS = ("name", "greatest", "default", "number")
 
@@ -16,7 +16,7 @@ class Column:
             raise BadPart("greatest")
         if not is_within(default, greatest):
             raise BadPart("default")
-        if not is_integer(number) or number < 0:
+        if not is_whole(number) or number < 0:
             raise BadPart("number")
         self.name = name
         self.greatest = greatest
@@ -55,7 +55,7 @@ def column_named(columns, name):
 
 def column_numbered(columns, number):
     """The Column of a list that has a number, or None; the number is any value."""
-    if not is_integer(number):
+    if not is_whole(number):
         return None
     for column in columns:
         if column.number == number:

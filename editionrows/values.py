@@ -7,7 +7,7 @@ LONGEST_NAME = 8
 MOST_GREATEST = 99
 
 
-def is_integer(value):
+def is_whole(value):
     """Whether any value is an integer: True and False are none, though Python counts them so."""
     return isinstance(value, int) and not isinstance(value, bool)
 
@@ -26,12 +26,12 @@ def is_name(value):
 
 def is_greatest(value):
     """Whether any value is a greatest value of a column."""
-    return is_integer(value) and 1 <= value <= MOST_GREATEST
+    return is_whole(value) and 1 <= value <= MOST_GREATEST
 
 
 def is_value(value):
     """Whether any value is None or an integer of at least 0."""
-    return value is None or (is_integer(value) and value >= 0)
+    return value is None or (is_whole(value) and value >= 0)
 
 
 def is_within(value, greatest):
@@ -65,7 +65,7 @@ def in_order(values):
         found.append(MISSING)
     if any([value is None for value in values]):
         found.append(None)
-    for number in sorted([int(value) for value in values if is_integer(value)]):
+    for number in sorted([int(value) for value in values if is_whole(value)]):
         if len(found) == 0 or found[-1] != number:
             found.append(number)
     return found

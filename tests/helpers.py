@@ -22,8 +22,7 @@ class Alike:
 
 
 # What is neither None, nor an integer, nor the string of MISSING, nor a name.
-STRANGE = [True, False, "", "A", "None", "0", b"a", [], [0], ["a"], (), (0,), {}, {"a": 0}, {0}, object, object(), Alike(),
-           1.5]
+STRANGE = [True, False, "", "A", "None", "0", b"a", [], [0], ["a"], (), (0,), {}, {"a": 0}, {0}, object, object(), Alike()]
 
 
 class Case(unittest.TestCase):

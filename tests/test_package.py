@@ -13,11 +13,26 @@ FUNCTIONS = {
                "in_order(values)"],
     "changes": ["is_change(value)", "kind_of(change)", "why_not(columns, change)",
                 "changed_columns(columns, change, number)", "changed_value(column, change, value)"],
+    "stored": ["is_stored(history, value)", "store(history, told, *, edition=None)", "stored_value(row, number)",
+               "followed(history, row, *, edition=None)", "barred_at(history, row)", "all_stored(history, edition)"],
+    "maps": ["arguments_of(history, edition, number)", "is_dead(history, edition)",
+             "map_of(history, edition, number)", "maps_of(history, edition)", "read_row(history, row)"],
 }
 
 METHODS = {
     "columns.Column": ["__init__(self, name, greatest, default=None, *, number=0)", "__eq__(self, other)",
                        "__contains__(self, x)", "all_values(self)", "changed(self, part, value)"],
+    "histories.History": ["__init__(self, columns, changes=())", "__eq__(self, other)", "__len__(self)",
+                          "__getitem__(self, at)", "__iter__(self)", "first_columns(self)",
+                          "columns(self, edition=None)", "changes_told(self)", "column(self, name, *, edition=None)",
+                          "by_number(self, number, *, edition=None)", "numbers(self)", "born(self, number)",
+                          "dropped(self, number)", "then(self, change)", "back(self)", "up_to(self, edition)",
+                          "behind(self, edition)"],
+    "plain.Plain": ["__init__(self, history, rows=())", "__eq__(self, other)", "__len__(self)", "rows(self)",
+                    "written(self, told)", "changed(self, change)", "why_not(self, change)"],
+    "maps.Map": ["__init__(self, pairs)", "__call__(self, argument)", "__getitem__(self, at)", "__contains__(self, x)",
+                 "__len__(self)", "__iter__(self)", "__eq__(self, other)", "__le__(self, other)",
+                 "__or__(self, other)", "arguments(self)", "agrees(self, other)", "then(self, other)"],
 }
 
 BUILTINS = ["len", "range", "enumerate", "zip", "min", "max", "sum", "abs", "sorted", "reversed", "int", "str", "bool",
