@@ -2,7 +2,7 @@
 
 from editionrows.columns import Column, column_named
 from editionrows.errors import BadChange, CannotBe
-from editionrows.values import MISSING, is_greatest, is_whole, is_name, is_value, is_within
+from editionrows.values import MISSING, is_greatest, is_name, is_value, is_whole, is_within, is_word
 
 WAYS = ("cut", "none", "refuse")
 MOST_COLUMNS = 6
@@ -39,7 +39,7 @@ def is_single_part(kind, part):
 
 def is_way(value):
     """Whether any value is a way in which a greatest value is changed."""
-    return isinstance(value, str) and value in WAYS
+    return is_word(value, WAYS)
 
 
 def kind_of(change):

@@ -1,7 +1,7 @@
 """Columns, and how one of a list of them is found."""
 
 from editionrows.errors import BadPart
-from editionrows.values import is_greatest, is_whole, is_name, is_within, values_to
+from editionrows.values import is_greatest, is_name, is_whole, is_within, is_word, values_to
 
 PARTS = ("name", "greatest", "default", "number")
 
@@ -36,7 +36,7 @@ class Column:
 
     def changed(self, part, value):
         """The Column with another value for one of its parts."""
-        if not isinstance(part, str) or part not in PARTS:
+        if not is_word(part, PARTS):
             raise BadPart(part)
         parts = {"name": self.name, "greatest": self.greatest, "default": self.default, "number": self.number}
         parts[part] = value

@@ -17,6 +17,11 @@ def is_list(value):
     return isinstance(value, (list, tuple))
 
 
+def is_word(value, words):
+    """Whether any value is one of some words."""
+    return isinstance(value, str) and value in words
+
+
 def is_name(value):
     """Whether any value is a name: one to eight letters from a to z."""
     if not isinstance(value, str) or not 1 <= len(value) <= LONGEST_NAME:
@@ -41,7 +46,7 @@ def is_within(value, greatest):
 
 def is_missing(value):
     """Whether any value is MISSING."""
-    return isinstance(value, str) and value == MISSING
+    return is_word(value, (MISSING,))
 
 
 def values_to(greatest):

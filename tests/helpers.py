@@ -1,8 +1,12 @@
-"""What the tests share: wrong values of many kinds, and a check for an error with what it keeps."""
+"""What the tests share: wrong values of many kinds, a check for an error with what it keeps, books and histories."""
 
+import itertools
 import unittest
 
 from editionrows import errors
+from editionrows.books import MAPPINGS, MISSINGS, NUMBERINGS, TOUCHES, Book
+from editionrows.columns import Column
+from editionrows.histories import History
 
 ATTRIBUTES = {
     errors.BadColumn: "index", errors.BadPart: "part", errors.BadChange: "index", errors.CannotBe: "word",
@@ -43,3 +47,16 @@ class Case(unittest.TestCase):
     def truth(self, found, wanted, message=None):
         """Just True or just False."""
         self.assertIs(found, wanted, message)
+
+
+def all_books():
+    """A Book for each missing, numbering, mapping and touching."""
+    for missing, numbering, mapping in itertools.product(MISSINGS, NUMBERINGS, MAPPINGS):
+        for many in range(len(TOUCHES) + 1):
+            for touching in itertools.combinations(TOUCHES, many):
+                yield Book(missing=missing, numbering=numbering, mapping=mapping, touching=touching)
+
+
+def history_of(first, changes):
+    """The History of columns as tests/model.py has them, and changes."""
+    return History([Column(name, greatest, default) for name, _, greatest, default in first], changes)

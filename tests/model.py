@@ -139,3 +139,160 @@ def small_histories(most, step=1):
                     if editions(first, changes + [change]) is not None]
         for changes in told[::step]:
             yield first, changes, editions(first, changes)
+
+
+def any_change(chance, columns, greatest):
+    """Some change of some columns, drawn from a random.Random, with no integer above a greatest one."""
+    name = chance.choice(columns)[0] if chance.random() < 0.95 else "z"
+    kind = chance.choice(["add", "add", "drop", "rename", "default", "default", "greatest", "greatest", "fill", "fill"])
+    value = chance.choice([None] + list(range(greatest + 1)))
+    if kind == "add":
+        return ("add", chance.choice("abcd"), chance.randint(1, greatest), value)
+    if kind == "rename":
+        return ("rename", name, chance.choice("abcd"))
+    if kind == "default":
+        return ("default", name, value)
+    if kind == "greatest":
+        return ("greatest", name, chance.randint(1, greatest), chance.choice(["cut", "none", "refuse", "refuse"]))
+    return ("drop", name) if kind == "drop" else ("fill", name, chance.randint(0, greatest))
+
+
+def drawn_history(chance, many, greatest, widest=3):
+    """Columns and so many changes of them, drawn from a random.Random, and the columns at each edition."""
+    first = []
+    for number in range(chance.randint(1, 2)):
+        most = chance.randint(1, greatest)
+        first.append(("ab"[number], number, most, chance.choice(values_of(most))))
+    changes = []
+    while len(changes) < many:
+        change = any_change(chance, editions(first, changes)[-1], greatest)
+        there = editions(first, changes + [change])
+        if there is not None and len(there[-1]) <= widest:
+            changes.append(change)
+    return first, changes, editions(first, changes)
+
+
+class Shelf:
+    """One row as a book stores it, change by change, from the edition at which it is written.
+
+    The book has the parts missing, numbering, mapping and touching. plain is what the plain table has, or None once the
+    row is barred; kept is what is stored; log has for each column what was done to it behind that; added the defaults
+    of those that were added behind it.
+    """
+
+    def __init__(self, book, there, changes, edition, row):
+        self.book = book
+        self.there = there
+        self.changes = changes
+        self.number_of = {column[0]: column[1] for column in there[0]}
+        self.used = len(self.number_of)
+        self.free = None
+        for at in range(edition):
+            self.number(changes[at])
+        # For a row that was written behind the drop the number has no life till it is given again.
+        self.unborn = self.free
+        self.at = edition
+        self.plain = dict(row)
+        self.touch()
+
+    def number(self, change):
+        kind, name = change[:2]
+        if kind == "drop":
+            gone = self.number_of.pop(name)
+            self.free, self.unborn = (gone if self.book.numbering == "again" else None), None
+        elif kind == "rename":
+            self.number_of[change[2]] = self.number_of.pop(name)
+        elif kind == "add" and self.free is not None:
+            self.number_of[name], self.free, self.unborn = self.free, None, None
+        elif kind == "add":
+            self.number_of[name] = self.used
+            self.used += 1
+
+    def touch(self):
+        self.kept = (self.at, {self.number_of[name]: value for name, value in self.plain.items()})
+        self.log = {name: [] for name in self.plain}
+        self.added = {}
+
+    def step(self):
+        change = self.changes[self.at]
+        kind, name = change[:2]
+        columns = self.there[self.at]
+        self.plain = row_behind(columns, change, self.plain)
+        if self.plain is None:
+            return
+        self.number(change)
+        self.at += 1
+        if kind == "add":
+            self.log[name] = []
+            self.added[name] = change[3]
+        elif kind == "drop":
+            del self.log[name]
+            self.added.pop(name, None)
+        elif kind == "rename":
+            self.log[change[2]] = self.log.pop(name)
+            if name in self.added:
+                self.added[change[2]] = self.added.pop(name)
+        else:
+            greatest = [column[2] for column in columns if column[0] == name][0]
+            self.log[name].append((greatest,) + change)
+        if kind in self.book.touching:
+            self.touch()
+
+    def column(self, name):
+        return [column for column in self.there[self.at] if column[0] == name][0]
+
+    def signs(self, name):
+        """The latest way and the latest fill among what was done to a column."""
+        ways = [change[4] for change in self.log[name]
+                if change[1] == "greatest" and change[3] < change[0] and change[4] != "refuse"]
+        fills = [change[3] for change in self.log[name] if change[1] == "fill"]
+        return (ways or [""])[-1], (fills or [None])[-1]
+
+    def read(self, name):
+        _, _, greatest, default = self.column(name)
+        stored = self.kept[1].get(self.number_of[name], "missing")
+        if stored == "missing" and self.book.missing != "kept":
+            return default if self.book.missing == "present" else None
+        value = self.added[name] if stored == "missing" else stored
+        if self.book.mapping == "order":
+            for change in self.log[name]:
+                led = value_behind(change[0], change[1:], value)
+                value = value if led == "bar" else led
+            return value
+        way, fill = self.signs(name)
+        if value is not None and value > greatest:
+            value = None if way == "none" else greatest
+        return fill if value is None else value
+
+    def life(self, name):
+        """The life of the number of a column."""
+        _, _, greatest, default = self.column(name)
+        stored = self.kept[1].get(self.number_of[name], "missing")
+        book = self.book
+        if book.mapping == "last":
+            start = self.added[name] if stored == "missing" and book.missing == "kept" else None
+            memory = (start,) + self.signs(name)
+        else:
+            memory = self.read(name) if stored != "missing" or book.missing == "kept" else None
+        if stored != "missing" and (book.numbering, book.mapping) == ("fresh", "order"):
+            stored = "there"
+        return (greatest, default, self.plain[name], stored, memory)
+
+    def lives(self):
+        """The lives of all columns by their names, and that of the number that was dropped last under None."""
+        found = {name: self.life(name) for name in self.plain}
+        if self.free is not None and self.free != self.unborn:
+            found[None] = ("dropped", self.kept[1].get(self.free, "missing"))
+        return found
+
+
+def step_of(change, name, touching):
+    """The step that a change is for the column of a name, or for the dropped one under None; None if it is none."""
+    kind = change[0]
+    if kind == "rename":
+        return None
+    if name is None and kind == "add":
+        return (kind,) + change[2:]
+    if name is not None and kind != "add" and change[1] == name:
+        return (kind,) + change[2:]
+    return ("other", kind) if kind in touching else None

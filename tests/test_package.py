@@ -17,6 +17,13 @@ FUNCTIONS = {
                "followed(history, row, *, edition=None)", "barred_at(history, row)", "all_stored(history, edition)"],
     "maps": ["arguments_of(history, edition, number)", "is_dead(history, edition)",
              "map_of(history, edition, number)", "maps_of(history, edition)", "read_row(history, row)"],
+    "books": ["numbers_of(book, history, edition=None)", "kept_row(book, history, row)",
+              "book_reads(book, history, row)"],
+    "lives": ["first_lives(book, most)", "steps_of(book, life, most)", "is_life(book, value, most)",
+              "life_reads(book, life)", "all_lives(book, most)", "is_right(book, most)", "least_break(book, most)"],
+    "papers": ["paper_of(book, most)", "lets_paper(book, most, value)"],
+    "looks": ["looks(history, change, editions)", "needs_rows(change, columns)",
+              "barring(history, change, editions)"],
 }
 
 METHODS = {
@@ -33,6 +40,8 @@ METHODS = {
     "maps.Map": ["__init__(self, pairs)", "__call__(self, argument)", "__getitem__(self, at)", "__contains__(self, x)",
                  "__len__(self)", "__iter__(self)", "__eq__(self, other)", "__le__(self, other)",
                  "__or__(self, other)", "arguments(self)", "agrees(self, other)", "then(self, other)"],
+    "books.Book": ["__init__(self, *, missing='kept', numbering='fresh', mapping='order', touching=())",
+                   "__eq__(self, other)", "__le__(self, other)", "changed(self, part, value)", "touches(self, change)"],
 }
 
 BUILTINS = ["len", "range", "enumerate", "zip", "min", "max", "sum", "abs", "sorted", "reversed", "int", "str", "bool",
@@ -140,6 +149,19 @@ class Language(unittest.TestCase):
             for name in bound_at_top(tree) | bound_inside(tree):
                 self.assertNotIn(name, builtins, path)
                 self.assertNotIn(name, WORDS_BARRED, path)
+
+    def test_what_is_sorted(self):
+        # Beside an order of its own a class lets only plain numbers be compared by these.
+        for path, tree in trees():
+            for node in ast.walk(tree):
+                if isinstance(node, ast.Call) and isinstance(node.func, ast.Name):
+                    if node.func.id == "sorted" or node.func.id in ("min", "max") and len(node.args) == 1:
+                        self.assertIsInstance(node.args[0], ast.ListComp, (path, node.lineno))
+                        self.assertEqual(ast.unparse(node.args[0].elt)[:4], "int(", (path, node.lineno))
+                    elif node.func.id in ("min", "max"):
+                        self.assertIn(True, [ast.unparse(arg)[:4] in ("int(", "len(") for arg in node.args], path)
+                    elif node.func.id in ("any", "all", "sum"):
+                        self.assertIsInstance(node.args[0], ast.ListComp, (path, node.lineno))
 
     def test_methods_that_are_called(self):
         own = set()

@@ -2,17 +2,13 @@
 
 import unittest
 
-from editionrows.columns import Column
 from editionrows.errors import BadColumn, CannotBe
 from editionrows.histories import History
 from editionrows.maps import arguments_of, is_dead, map_of, maps_of, read_row
 from editionrows.plain import Plain
 from editionrows.stored import all_stored, barred_at, followed, is_stored, store, stored_value
 from tests import model
-
-
-def history_of(first, changes):
-    return History([Column(name, greatest, default) for name, _, greatest, default in first], changes)
+from tests.helpers import history_of
 
 
 def plain_read(history, edition, row):
