@@ -60,3 +60,7 @@ def all_books():
 def history_of(first, changes):
     """The History of columns as tests/model.py has them, and changes."""
     return History([Column(name, greatest, default) for name, _, greatest, default in first], changes)
+
+
+# What cannot stand where a list is asked for.
+NO_LISTS = [None, 0, True, "0", "", {0}, {0: 0}, {}, object(), object, Alike(), b"0", range(2)]

@@ -296,3 +296,48 @@ def step_of(change, name, touching):
     if name is not None and kind != "add" and change[1] == name:
         return (kind,) + change[2:]
     return ("other", kind) if kind in touching else None
+
+
+def is_dead(there, changes, edition):
+    """Whether some column that was added behind an edition has nothing that leads on from it."""
+    here = {column[1] for column in there[edition]}
+    later = {column[1] for columns in there[edition:] for column in columns} - here
+    return any(lead(there, changes, number, edition) == {} for number in later)
+
+
+def live(there, changes):
+    return [edition for edition in range(len(there)) if not is_dead(there, changes, edition)]
+
+
+def parting(there, changes, one, other):
+    """The first number and argument on which the maps of two editions differ, or None."""
+    order = ["missing", None] + list(range(100))
+    for number in sorted(column[1] for column in there[-1]):
+        first, second = lead(there, changes, number, one), lead(there, changes, number, other)
+        for argument in sorted(first, key=order.index):
+            if argument in second and first[argument] != second[argument]:
+                return number, argument
+    return None
+
+
+def together(there, changes):
+    """All pairs of editions that are not dead and go together, both ways round."""
+    ones = live(there, changes)
+    return {(one, other) for one in ones for other in ones if parting(there, changes, one, other) is None}
+
+
+def partings(editions):
+    """All ways to part some editions into lists."""
+    if not editions:
+        yield []
+        return
+    for lots in partings(editions[1:]):
+        yield [[editions[0]]] + lots
+        for at, lot in enumerate(lots):
+            yield lots[:at] + [[editions[0]] + lot] + lots[at + 1:]
+
+
+def fewest(pairs, editions):
+    """The least number of lists into which some editions are parted, any two of a list among the pairs."""
+    return min(len(lots) for lots in partings(sorted(editions))
+               if all((one, other) in pairs for lot in lots for one in lot for other in lot))

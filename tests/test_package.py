@@ -24,6 +24,19 @@ FUNCTIONS = {
     "papers": ["paper_of(book, most)", "lets_paper(book, most, value)"],
     "looks": ["looks(history, change, editions)", "needs_rows(change, columns)",
               "barring(history, change, editions)"],
+    "covers": ["go_together(history, one, other)", "parting_argument(history, one, other)",
+               "live_ones(history, editions)", "joined_map(history, editions)", "least_cover(history, editions)",
+               "is_cover(history, editions, value)"],
+    "touches": ["touched(history, row)", "remembered(history, rows, open_ones=())",
+                "least_touches(history, rows, most, *, open_ones=())",
+                "touch_plan(history, rows, most, *, open_ones=())",
+                "is_touch_plan(history, rows, most, value, *, open_ones=())"],
+    "late": ["late_row(history, edition, told)", "meant(history, edition, told)", "is_late_right(history, edition)",
+             "late_error(history, edition)", "unlike_names(history, edition)", "fence(history, edition)",
+             "right_editions(history)", "live_editions(history)"],
+    "indexes": ["stored_values(history, number, edition)", "order_break(history, number, editions)",
+                "is_in_order(history, number, editions)", "unique_break(history, number, editions)",
+                "is_alike_unique(history, number, editions)"],
 }
 
 METHODS = {
@@ -42,6 +55,10 @@ METHODS = {
                  "__or__(self, other)", "arguments(self)", "agrees(self, other)", "then(self, other)"],
     "books.Book": ["__init__(self, *, missing='kept', numbering='fresh', mapping='order', touching=())",
                    "__eq__(self, other)", "__le__(self, other)", "changed(self, part, value)", "touches(self, change)"],
+    "covers.Memory": ["__init__(self, history, editions)", "__eq__(self, other)", "__len__(self)", "lots(self)",
+                      "read(self, row)"],
+    "indexes.StoredIndex": ["__init__(self, history, number, rows)", "__len__(self)", "entries(self)", "reads(self)",
+                            "is_sorted(self)", "unique_by_stored(self)", "unique_by_read(self)", "find(self, value)"],
 }
 
 BUILTINS = ["len", "range", "enumerate", "zip", "min", "max", "sum", "abs", "sorted", "reversed", "int", "str", "bool",
