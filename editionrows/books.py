@@ -1,10 +1,10 @@
 """Books: how rows are stored and read, and what a book reads of a row in a history."""
 
 from editionrows.changes import is_change, kind_of
-from editionrows.errors import BadChange, BadPart, BadRow
+from editionrows.errors import BadChange, BadPart
 from editionrows.histories import History, edition_of
 from editionrows.maps import changes_of
-from editionrows.stored import followed, is_stored
+from editionrows.stored import followed
 from editionrows.values import is_list, is_word
 
 MISSINGS = ("kept", "present", "none")
@@ -122,8 +122,6 @@ def stored_at(book, history, row):
 def kept_row(book, history, row):
     """What is stored of a row at the present: an edition and values by the book's numbers; None if it is barred."""
     check_parts(book, history)
-    if not is_stored(history, row):
-        raise BadRow(row)
     if followed(history, row) is None:
         return None
     at = stored_at(book, history, row)

@@ -23,12 +23,9 @@ def check_editions(history, editions):
         check_edition(history, edition)
 
 
-def differing_argument(one, other):
-    """The first argument that two Maps lead elsewhere, in a tuple, or an empty tuple."""
-    for argument in one.arguments():
-        if argument in other and one(argument) != other(argument):
-            return (argument,)
-    return ()
+def differing_arguments(one, other):
+    """The arguments that two Maps lead elsewhere, ascending."""
+    return [argument for argument in one.arguments() if argument in other and one(argument) != other(argument)]
 
 
 def parting_argument(history, one, other):
@@ -38,8 +35,9 @@ def parting_argument(history, one, other):
         return None
     others = maps_of(history, other)
     for number, found in maps_of(history, one).items():
-        for argument in differing_argument(found, others[number]):
-            return (number, argument)
+        differing = differing_arguments(found, others[number])
+        if len(differing) > 0:
+            return (number, differing[0])
     return None
 
 
@@ -84,7 +82,7 @@ def joined_map(history, editions):
     together = companions(history, live)
     for one in live:
         for other in live:
-            if one < other and other not in together[one]:
+            if other not in together[one]:
                 raise BadLot((one, other))
     return lot_map(history, live)
 

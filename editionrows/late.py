@@ -1,7 +1,7 @@
 """Late writers: rows written now as at an elder edition, and whether they are read as they were meant."""
 
 from editionrows.covers import check_edition, live_ones
-from editionrows.maps import arguments_of, is_dead, map_of
+from editionrows.maps import is_dead, map_of
 from editionrows.stored import followed, store
 from editionrows.values import MISSING
 
@@ -22,20 +22,13 @@ def meant(history, edition, told):
             for column in history.columns()}
 
 
-def untold_argument(history, edition, column):
-    """What a writer at an edition that is not dead stores of a present Column that it leaves untold, in a tuple.
-
-    The tuple is empty if the row would be refused then.
-    """
-    elder = history.by_number(column.number, edition=edition)
-    stored = MISSING if elder is None else elder.default
-    return (stored,) if stored in arguments_of(history, edition, column.number) else ()
-
-
 def is_unlike(history, edition, column):
     """Whether a present Column left untold at an edition that is not dead is read as another than its default."""
-    return any([map_of(history, edition, column.number)(stored) != column.default
-                for stored in untold_argument(history, edition, column)])
+    elder = history.by_number(column.number, edition=edition)
+    stored = MISSING if elder is None else elder.default
+    led = map_of(history, edition, column.number)
+    # A default that is barred cannot be left untold: the row would be refused.
+    return stored in led and led(stored) != column.default
 
 
 def unlike_columns(history, edition):
@@ -59,11 +52,12 @@ def is_late_right(history, edition):
 def late_error(history, edition):
     """A tuple (told, name) that shows that a late writer of an edition is not right, or None."""
     check_edition(history, edition)
-    for column in unlike_columns(history, edition):
-        # No change bars 0, so with it any default that is barred can be gone round.
-        told = {elder.name: 0 for elder in history.columns(edition) if elder.number != column.number}
-        return (told, column.name)
-    return None
+    columns = unlike_columns(history, edition)
+    if len(columns) == 0:
+        return None
+    # No change bars 0, so with it any default that is barred can be gone round.
+    told = {elder.name: 0 for elder in history.columns(edition) if elder.number != columns[0].number}
+    return (told, columns[0].name)
 
 
 def fence(history, edition):

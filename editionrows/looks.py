@@ -66,6 +66,7 @@ def barring(history, change, editions):
     if not needs_rows(change, history.columns()):
         return None
     for edition in editions:
-        for argument in arguments_above(history, change, edition):
-            return (edition, argument)
+        above = arguments_above(history, change, edition)
+        if len(above) > 0:
+            return (edition, above[0])
     return None

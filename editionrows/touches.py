@@ -57,7 +57,7 @@ def planned_editions(history, rows, most, open_ones):
 
 def is_enough(together, editions, most):
     """Whether some editions are parted into at most so many lots."""
-    return parted(together, editions, [], min(most, len(editions))) is not None
+    return parted(together, editions, [], most) is not None
 
 
 def choices_of(editions):
@@ -81,10 +81,10 @@ def emptied_editions(history, rows, most, open_ones):
     least = len(rows) + 1
     for choice in choices_of([edition for edition in ahead if edition != present and edition not in open_ones]):
         count = sum([counts[edition] for edition in choice])
-        if len(choice) > 0 and count < least:
-            if is_enough(together, [edition for edition in together if edition not in choice], most):
-                best = choice
-                least = count
+        left = [edition for edition in together if edition not in choice]
+        if count < least and is_enough(together, left, most):
+            best = choice
+            least = count
     return best
 
 

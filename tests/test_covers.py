@@ -62,6 +62,11 @@ class Together(Case):
             self.assertIsNone(parting_argument(DEAD, 0, one))
             self.assertIsNone(parting_argument(DEAD, one, 0))
         self.truth(go_together(DEAD, 1, 5), True)
+        # Their maps of a differ, but no row of the dead one is read.
+        history = DEAD.then(("fill", "a", 1))
+        self.assertIsNone(parting_argument(history, 0, 6))
+        self.assertIsNone(parting_argument(history, 6, 0))
+        self.same(parting_argument(history, 1, 6), (0, None))
 
     def test_errors(self):
         for call in [go_together, parting_argument]:
@@ -198,10 +203,17 @@ class Covers(Case):
         self.same(sorted(least_cover(DEAD, [0, 1, 2, 3, 4, 5])), [[1, 2, 3, 4, 5]])
         self.assertEqual(len(least_cover(HISTORY, [0, 1, 2, 3, 4, 5, 6])), 4)
 
-    def test_two_lots_where_the_first_that_fits_would_make_three(self):
-        # 1 goes with 0 and 2, but not 0 with 2; both ways round.
-        self.assertEqual(len(least_cover(HISTORY, [0, 1, 2])), 2)
-        self.assertEqual(len(least_cover(HISTORY, [0, 1, 2, 3])), 2)
+    def test_where_the_first_lot_that_fits_is_the_wrong_one(self):
+        # 1 goes with 6 and 7, 5 with 6 alone: 6 must not go to 1.
+        history = History([Column("a", 3), Column("b", 4)], [
+            ("greatest", "b", 2, "cut"), ("fill", "b", 2), ("greatest", "a", 2, "cut"), ("greatest", "b", 1, "refuse"),
+            ("greatest", "a", 4, "none"), ("greatest", "a", 2, "none"), ("fill", "b", 1), ("greatest", "b", 3, "none")])
+        self.same(least_cover(history, [1, 5, 6, 7]), [[1, 7], [5, 6]])
+        self.truth(go_together(history, 1, 6), True)
+        history = History([Column("a", 2), Column("b", 3)], [
+            ("default", "a", 1), ("fill", "b", 2), ("greatest", "b", 1, "none"), ("default", "a", 0), ("fill", "a", 2),
+            ("greatest", "a", 1, "refuse"), ("greatest", "b", 4, "none"), ("greatest", "b", 1, "cut"), ("fill", "a", 1)])
+        self.assertEqual(len(least_cover(history, [0, 1, 2, 3, 5, 7, 9])), 2)
 
     def test_too_many(self):
         history = History([Column("a", 1)], [("default", "a", 0)] * 20)

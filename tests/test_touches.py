@@ -114,11 +114,13 @@ class Plans(Case):
         rows = of(3, 1, 15, 3, 1, 2)
         for value in [[0, 1, 3, 4, 5]]:
             self.truth(is_touch_plan(PARTED, rows, 1, value), True)
-        for value in STRANGE + [None, 0, (0, 1, 3, 4, 5), [1, 0, 3, 4, 5], [0, 1, 3, 4, 5, 5], [0, 0, 1, 3, 4, 5],
-                                [0, 1, 2, 3, 4, 5], [0, 1, 3, 4], [0, 1, 3, 4, 5, 6], [-6, 0, 1, 3, 4, 5], [-1],
-                                [False, 1, 3, 4, 5], [0, True, 3, 4, 5], [None, 0, 1, 3, 4, 5], [0, 1, 3, 4, "5"],
-                                {0: 0, 1: 1, 3: 3, 4: 4, 5: 5}, {0, 1, 3, 4, 5}, [[0, 1, 3, 4, 5]]]:
-            self.truth(is_touch_plan(PARTED, rows, 1, value), False, value)
+        for value in [None, 0, True, (), (0, 1, 3, 4, 5), [1, 0, 3, 4, 5], [0, 1, 3, 4, 5, 5], [0, 0, 1, 3, 4, 5],
+                      [0, 1, 2, 3, 4, 5], [2], [0, 1, 3, 4, 5, 6], [6], [-6, 0, 1, 3, 4, 5], [-1], [-6], [False, 1],
+                      [0, True, 3, 4, 5], [None, 0, 1, 3, 4, 5], [0, 1, 3, 4, "5"], [[0]], {0: 0, 1: 1, 3: 3, 4: 4, 5: 5},
+                      {0, 1, 3, 4, 5}, [[0, 1, 3, 4, 5]], "01345", {}, range(2)]:
+            for most in [1, 20]:
+                self.truth(is_touch_plan(PARTED, rows, most, value), False, value)
+        self.truth(is_touch_plan(PARTED, rows, 1, [0, 1, 3, 4]), False)
 
     def test_more_than_needed(self):
         rows = of(3, 1, 15, 3, 1, 2)
