@@ -372,9 +372,10 @@ class All(Case):
 
 
 def least_breaks(book, most, longest):
-    """The least number of changes behind which some row is read otherwise, by histories alone; None if there is none.
+    """The least number of changes, up to a longest, behind which some row is read otherwise; None if there is none.
 
-    Columns of one greatest value or of all, changes of two columns: all that can matter.
+    All histories of a column a beside a column b are gone through, with all changes of a and of an added c, and one of
+    each kind of b.
     """
     firsts = [[("a", 0, greatest, default), ("b", 1, 1, 0)] for greatest in range(1, most + 1)
               for default in model.values_of(greatest)]
@@ -437,18 +438,9 @@ class Breaks(Case):
             self.check(book, 3)
 
     def test_as_short_as_possible(self):
-        for book in list(all_books())[::3]:
-            found = self.check(book, 1)
-            self.assertEqual(least_breaks(book, 1, 1 if found is None else found), found, vars(book))
-        for book in list(all_books())[::29]:
-            found = self.check(book, 2)
-            self.assertEqual(least_breaks(book, 2, 1 if found is None else found), found, vars(book))
-
-    def test_right_books_in_small_histories(self):
-        for book in [ORDER, Book(mapping="last", touching=["fill"]), Book(numbering="again", touching=["drop"]),
-                     Book(missing="none", touching=["add"]), Book(missing="present", touching=["default", "fill"])]:
-            self.truth(is_right(book, 1), True)
-            self.assertIsNone(least_breaks(book, 1, 2))
+        for most, step in [(1, 1), (2, 29)]:
+            for book in list(all_books())[::step]:
+                self.assertEqual(least_breaks(book, most, 2), self.check(book, most), vars(book))
 
     def test_known_ones(self):
         for parts, most, many in [({"missing": "none"}, 1, 1), ({"missing": "present"}, 1, 2), ({"mapping": "last"}, 2, 2),
