@@ -219,39 +219,72 @@ def is_plain(book, life):
     return is_dropped(life) or read_in(book, life) == life[2]
 
 
-def ways_to(book, most):
-    """All lives that come, those of fewer changes ahead, each with a tuple of as few as lead to it.
-
-    The tuple is (life as written, steps), or (None, steps) where the first step is an add.
-    """
-    ways = {life: (life, ()) for life in written_lives(book, most)}
-    level = list(ways)
-    arrived = [(added_life(book, greatest, default, MISSING), (None, (("add", greatest, default),)))
-               for greatest, default in columns_to(most)]
-    while len(level) > 0:
-        for life in level:
-            first, steps = ways[life]
-            arrived.extend([(behind, (first, steps + (step,))) for step, behind in steps_from(book, life, most)])
-        level = []
-        for life, way in arrived:
-            if life not in ways:
-                ways[life] = way
-                level.append(life)
-        arrived = []
-        if len(ways) > MOST_LIVES:
-            raise TooMany(MOST_LIVES)
-    return ways
-
-
 def all_lives(book, most):
     """All lives that come."""
-    check_asked(book, most)
-    return list(ways_to(book, most))
+    lives = {life: True for life in first_lives(book, most)}
+    level = list(lives)
+    while len(level) > 0:
+        arrived = [behind for life in level for _, behind in steps_from(book, life, most)]
+        level = []
+        for life in arrived:
+            if life not in lives:
+                lives[life] = True
+                level.append(life)
+        if len(lives) > MOST_LIVES:
+            raise TooMany(MOST_LIVES)
+    return list(lives)
+
+
+def is_default_read(book, life):
+    """Whether a book reads the present default in a life."""
+    return not is_dropped(life) and not is_kept(book, life[3]) and book.missing == "present"
+
+
+def needed_steps(book, life, most):
+    """The steps of a life without those that a search for a shortest break can leave out."""
+    steps = own_steps(book, life, most) + other_steps(book, life)
+    if is_default_read(book, life):
+        return steps
+    # None hinders no refuse, so where no default is read it can stand for each other default.
+    return [step for step in steps if step[0] != "default" or step[1] is None]
+
+
+def needed_starts(book, most):
+    """What a search for a shortest break begins with: tuples (life, life as written or None)."""
+    # A number that no column had yet goes on as one that is dropped with nothing stored under it.
+    starts = [((DROPPED, MISSING), None)]
+    for greatest in range(1, most + 1):
+        for value in values_to(greatest):
+            life = written_life(book, greatest, None, value)
+            starts.append((life, life))
+    return starts
+
+
+def breaking_way(book, most):
+    """As few steps as lead to a life that is not read as the plain table has it, or None if there is no such life.
+
+    They are a tuple (life as written, steps), or (None, steps) where the first step is an add.
+    """
+    level = [(life, first, ()) for life, first in needed_starts(book, most)]
+    known = {life: True for life, _, _ in level}
+    while len(level) > 0:
+        arrived = []
+        for life, first, steps in level:
+            for step in needed_steps(book, life, most):
+                behind = life_behind(book, life, step)
+                if behind not in known:
+                    known[behind] = True
+                    arrived.append((behind, first, steps + (step,)))
+                    if not is_plain(book, behind):
+                        return (first, steps + (step,))
+        level = arrived
+    return None
 
 
 def is_right(book, most):
     """Whether a book reads the plain value in all lives that come."""
-    return all([is_plain(book, life) for life in all_lives(book, most)])
+    check_asked(book, most)
+    return breaking_way(book, most) is None
 
 
 def history_of(first, steps):
@@ -269,7 +302,5 @@ def history_of(first, steps):
 def least_break(book, most):
     """None if a book is right, otherwise a tuple (History, row, name) with as few changes as possible."""
     check_asked(book, most)
-    for life, (first, steps) in ways_to(book, most).items():
-        if not is_plain(book, life):
-            return history_of(first, steps) + (OWN_NAME,)
-    return None
+    way = breaking_way(book, most)
+    return None if way is None else history_of(way[0], way[1]) + (OWN_NAME,)

@@ -1,5 +1,6 @@
 import itertools
 import random
+import time
 import unittest
 from unittest import mock
 
@@ -409,6 +410,23 @@ def breaks(book, first, changes):
     return False
 
 
+def fewest_steps(book, most):
+    """The least number of changes, by all steps that are told, that lead to a life that is read otherwise, or None."""
+    first = first_lives(book, most)
+    level = [life for life in first if life[3] != "missing"]
+    known = set(level)
+    many = 0
+    while level:
+        if not all(is_read_plain(book, life) for life in level):
+            return many
+        behind = [life for each in level for _, life in steps_of(book, each, most)]
+        behind += [life for life in first if many == 0 and life[3] == "missing"]
+        level = [life for life in dict.fromkeys(behind) if life not in known]
+        known.update(level)
+        many += 1
+    return None
+
+
 class Breaks(Case):
 
     def check(self, book, most):
@@ -441,6 +459,35 @@ class Breaks(Case):
         for most, step in [(1, 1), (2, 29)]:
             for book in list(all_books())[::step]:
                 self.assertEqual(least_breaks(book, most, 2), self.check(book, most), vars(book))
+
+    def check_fewest(self, book, most):
+        wanted = fewest_steps(book, most)
+        self.truth(is_right(book, most), wanted is None)
+        self.assertEqual(self.check(book, most), wanted, (vars(book), most))
+
+    def test_as_few_as_of_all_steps(self):
+        for most in [1, 2, 3]:
+            for missing, numbering, mapping in itertools.product(MISSINGS, NUMBERINGS, MAPPINGS):
+                self.check_fewest(Book(missing=missing, numbering=numbering, mapping=mapping), most)
+
+    def test_as_few_as_of_all_steps_where_rows_are_touched(self):
+        for most, step in [(1, 1), (2, 7), (3, 29)]:
+            for book in list(all_books())[::step]:
+                self.check_fewest(book, most)
+
+    def test_that_a_refuse_is_not_hindered_by_a_default(self):
+        # A default above 1 hinders a refuse to 1, so a search must not be left with such defaults alone.
+        for touching in [("fill",), ("fill", "default"), ("fill", "add")]:
+            for most in [2, 3]:
+                self.check_fewest(Book(mapping="last", touching=touching), most)
+                self.check_fewest(Book(missing="present", mapping="last", touching=touching), most)
+
+    def test_that_the_answer_comes_soon(self):
+        begun = time.perf_counter()
+        for _ in range(30):
+            self.truth(is_right(LAST, 3), False)
+            self.assertEqual(len(least_break(LAST, 3)[0]), 2)
+        self.assertLess(time.perf_counter() - begun, 2)
 
     def test_known_ones(self):
         for parts, most, many in [({"missing": "none"}, 1, 1), ({"missing": "present"}, 1, 2), ({"mapping": "last"}, 2, 2),
