@@ -44,6 +44,11 @@ def stored_value(row, number):
     return MISSING
 
 
+def row_with(history, edition, told):
+    """The stored row of an edition with some values by their numbers, and 0, which no change bars, everywhere else."""
+    return (edition, tuple([(column.number, told.get(column.number, 0)) for column in history.columns(edition)]))
+
+
 def trail(history, row, edition):
     """What a plain table has of a stored row at each edition from the row's to this one, or to a bar."""
     columns = history.columns(row[0])

@@ -341,3 +341,39 @@ def fewest(pairs, editions):
     """The least number of lists into which some editions are parted, any two of a list among the pairs."""
     return min(len(lots) for lots in partings(sorted(editions))
                if all((one, other) in pairs for lot in lots for one in lot for other in lot))
+
+
+def stored_of(columns, edition, row):
+    """A row, a dict from names to values, as it is stored at an edition with these columns."""
+    return edition, tuple((number, row[name]) for name, number, _, _ in columns)
+
+
+def followed_rows(first, changes):
+    """For each stored row of edition 0 that can be there its values by names at the end."""
+    there = editions(first, changes)
+    found = {}
+    for row in rows_of(first):
+        told = trail(there, changes, 0, row)
+        if len(told) == len(there):
+            found[stored_of(first, 0, row)] = told[-1]
+    return found
+
+
+def differences(first, one, other):
+    """All tuples that show that two lists of changes of the same columns do not make alike histories."""
+    ends = [{name: parts for name, _, *parts in editions(first, changes)[-1]} for changes in (one, other)]
+    names = set(ends[0]) | set(ends[1])
+    found = {("column", name) for name in names if ends[0].get(name) != ends[1].get(name)}
+    ones, others = followed_rows(first, one), followed_rows(first, other)
+    found |= {("row", row) for row in set(ones) ^ set(others)}
+    found |= {("read", row, name) for row in set(ones) & set(others) for name in set(ends[0]) & set(ends[1])
+              if ones[row][name] != others[row][name]}
+    return found
+
+
+def ending(first, changes):
+    """What alike histories have in common, and only they: the columns by names at the end, and the rows."""
+    columns = sorted((name, greatest, -1 if default is None else default)
+                     for name, _, greatest, default in editions(first, changes)[-1])
+    rows = {row: tuple(sorted(values.items())) for row, values in followed_rows(first, changes).items()}
+    return tuple(columns), frozenset(rows.items())
