@@ -155,7 +155,7 @@ class Search:
         self.changes = changes_looked_at(history)
         self.looked = {}
         self.longest = []
-        self.answer = None
+        self.found = None
         self.look_at(state, ())
 
     def look_at(self, state, done):
@@ -168,15 +168,15 @@ class Search:
         self.looked[key] = True
         self.longest.append((state, done))
         if key == self.wanted:
-            self.answer = done
+            self.found = done
 
     def go_on(self):
-        """Looks at the histories with one change more than the longest ones, up to one that is the answer."""
+        """Looks at the histories with one change more than the longest ones, up to one that is alike."""
         ahead = self.longest
         self.longest = []
         for state, done in ahead:
             for change in self.changes:
-                if self.answer is None and hindrance(state[0], change) is None:
+                if self.found is None and hindrance(state[0], change) is None:
                     self.look_at(state_behind(state, change), done + (change,))
 
 
@@ -187,4 +187,4 @@ def shortest(history, *, most=2):
     search = Search(history)
     for _ in range(most):
         search.go_on()
-    return None if search.answer is None else History(history.first_columns(), search.answer)
+    return None if search.found is None else History(history.first_columns(), search.found)
