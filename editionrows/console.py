@@ -92,14 +92,17 @@ class Console:
         """The answer to a line."""
         if not isinstance(line, str):
             raise BadLine(line)
-        is_trial = line.startswith(TRY)
-        step = step_of(line[len(TRY):] if is_trial else line)
-        if step is not None and is_trial:
-            with self.live.trying() as live:
-                return answer_of_step(live, step)
-        if step is not None:
-            return answer_of_step(self.live, step)
-        answer = None if is_trial else answer_of_question(self.live, line)
+        if line.startswith(TRY):
+            return self._tried(line)
+        step = step_of(line)
+        answer = answer_of_question(self.live, line) if step is None else answer_of_step(self.live, step)
         if answer is None:
             raise BadLine(line)
         return answer
+
+    def _tried(self, line):
+        step = step_of(line[len(TRY):])
+        if step is None:
+            raise BadLine(line)
+        with self.live.trying() as live:
+            return answer_of_step(live, step)

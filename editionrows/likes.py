@@ -110,7 +110,7 @@ def is_first_row(history, value):
 def is_unlike(one, other, value):
     """Whether any value is a tuple that shows that two histories are not alike."""
     check_both(one, other)
-    if not isinstance(value, tuple) or len(value) < 2:
+    if not isinstance(value, tuple):
         return False
     if len(value) == 2 and is_word(value[0], ("column",)):
         return is_column_unlike(one, other, value[1])

@@ -5,7 +5,7 @@ from editionrows.columns import column_named
 from editionrows.errors import BadChange, BadPart, TooMany
 from editionrows.histories import History
 from editionrows.likes import are_alike
-from editionrows.values import LETTERS, MISSING, MOST_GREATEST, is_missing, is_whole
+from editionrows.values import LETTERS, MISSING, is_missing, is_whole
 
 KINDS = ("fill", "greatest", "default", "rename", "drop", "add")
 LONGEST = 3
@@ -134,8 +134,7 @@ def changes_of_name(name, names, numbers):
 def changes_looked_at(history):
     """The changes of which a shortest alike history can be made."""
     columns = history.first_columns() + history.columns()
-    most = 1 + max([int(column.greatest) for column in columns])
-    numbers = [number for number in range(most + 1) if number <= MOST_GREATEST]
+    numbers = list(range(2 + max([int(column.greatest) for column in columns])))
     names = names_looked_at(columns)
     return [change for name in names for change in changes_of_name(name, names, numbers) if is_change(change)]
 

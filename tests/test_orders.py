@@ -291,6 +291,14 @@ class Shortest(Case):
             found = shortest(history)
             self.assertEqual(None if found is None else len(found), wanted if wanted <= 2 else None)
 
+    def test_columns_that_are_alike_but_for_their_names(self):
+        history = History([Column("a", 1), Column("b", 1)], [("rename", "a", "c"), ("rename", "b", "a"), ("rename", "c", "b")])
+        for most in range(3):
+            self.assertIsNone(shortest(history, most=most))
+        self.assertEqual(len(shortest(history, most=3)), 3)
+        self.same(shortest(history.then(("rename", "a", "c")).then(("rename", "b", "a")).then(("rename", "c", "b"))),
+                  History(history.first_columns()))
+
     def test_numbers_above(self):
         first = [("a", 0, 1, 0)]
         changes = [("add", "c", 2, 2), ("default", "c", 0), ("greatest", "c", 1, "refuse")]

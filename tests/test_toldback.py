@@ -266,6 +266,16 @@ class Sure(Case):
         self.same(sure_reads(COLUMNS, self.changes, [], (0, ((0, 0), (1, 4))), 2), {"a": 0})
         self.assertEqual(list(sure_reads(COLUMNS, self.changes, seen, (0, ((0, 3), (1, 1))), 2)), ["a", "b"])
 
+    def test_most_is_nine_if_it_is_left_out(self):
+        columns, row = [Column("a", 20)], (0, ((0, None),))
+        changes = [("greatest", "a", "?", "none"), ("fill", "a", "?")]
+        self.assertEqual({history[0][2] for history in fillings(columns, changes, [])}, set(range(1, 10)))
+        seen = [(row, 2, {"a": 9})]
+        self.same(sure_reads(columns, changes, seen, (0, ((0, 10),)), 1), {"a": None})
+        self.same(sure_reads(columns, changes, seen, (0, ((0, 10),)), 1, most=10), {})
+        self.same(sure_reads(columns, changes, seen, row, 2), {"a": 9})
+        self.same(sure_reads(columns, changes, seen, row, 2, most=8), {})
+
     def test_by_those_alone_that_have_the_row(self):
         changes = [("add", "c", "?", 0), ("greatest", "c", 2, "refuse"), ("fill", "a", 1)]
         # 3 is a value of c up to edition 1 alone, and there only if its greatest value is 3 or more.
