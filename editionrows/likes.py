@@ -54,9 +54,9 @@ def unlike_row(one, other):
     for column in one.first_columns():
         first = arguments_of(one, 0, column.number)
         second = arguments_of(other, 0, column.number)
-        for value in column.all_values():
-            if (value in first) != (value in second):
-                return row_with(one, 0, {column.number: value})
+        if first != second:
+            apart = [value for value in column.all_values() if (value in first) != (value in second)]
+            return row_with(one, 0, {column.number: apart[0]})
     return None
 
 
@@ -64,11 +64,13 @@ def unlike_arguments(one, other, name):
     """A dict from numbers to arguments of edition 0 that lead to unlike values of a name in both, or None."""
     number = one.column(name).number
     partner = other.column(name).number
+    first = map_of(one, 0, number)
     second = map_of(other, 0, partner)
-    led = map_of(one, 0, number)
-    for argument in led.arguments():
+    if number == partner and first == second:
+        return None
+    for argument in first.arguments():
         for beside in [argument] if number == partner else second.arguments():
-            if led(argument) != second(beside):
+            if first(argument) != second(beside):
                 return {number: argument, partner: beside}
     return None
 
