@@ -139,7 +139,6 @@ def changes_looked_at(history):
     return [change for name in names for change in changes_of_name(name, names, numbers) if is_change(change)]
 
 
-
 class Search:
     """A search, by length, for a history that is alike to one; each that is alike to one looked at is left out."""
 
